@@ -1,0 +1,1 @@
+"""Floors of rectangles, and the nets that run in them."""
