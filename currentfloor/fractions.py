@@ -49,6 +49,19 @@ def less(one, other):
     return one[0] * other[1] < other[0] * one[1]
 
 
+def common_bottom(row):
+    """The least number that all bottoms of the row divide."""
+    common = 1
+    for one in row:
+        common = common // common_part(common, one[1]) * one[1]
+    return common
+
+
+def wholes(row, bottom):
+    """The fractions of the row times a number that their bottoms divide, as whole numbers."""
+    return [one[0] * (bottom // one[1]) for one in row]
+
+
 def figures(number):
     """A whole number of any size as a text."""
     # Python's str refuses numbers of some thousand figures, so it is handed short pieces alone.

@@ -5,19 +5,12 @@ import random
 import unittest
 
 from currentfloor.lands import land_of, rings
+from helper import begun_elsewhere, end_behind
 
 ONE_ROPE = ((0, 2), (1, 3))
 # Poles 0 and 1, places 2 and 3; ropes 0-2, 0-3, 2-3, 2-1, 3-1 and the outer one (ends 10, 11), drawn flat:
 # the outer rope leaves place 0 upward and comes to place 1 from below.
 BRIDGE = ((10, 0, 2), (11, 9, 7), (1, 6, 4), (3, 5, 8))
-
-
-def end_behind(turns, end):
-    """The next end behind an end, by the words of point 8."""
-    other = {0: end + 1, 1: end - 1}[end % 2]
-    for turn in turns:
-        if other in turn:
-            return turn[(turn.index(other) + len(turn) - 1) % len(turn)]
 
 
 def cycles(order):
@@ -34,15 +27,6 @@ def cycles(order):
 
 def all_turns(m):
     return [cycles(order) for order in itertools.permutations(range(2 * m + 2))]
-
-
-def begun_elsewhere(turns, source):
-    """The same rings, begun at other ends."""
-    begun = []
-    for turn in turns:
-        cut = source.randrange(len(turn)) if turn else 0
-        begun.append(turn[cut:] + turn[:cut])
-    return tuple(begun)
 
 
 def some_turns(source, ends, places):

@@ -1,0 +1,181 @@
+"""What several tests need: flat nets drawn by chance from a seed, and the document's words as slow code."""
+
+from fractions import Fraction
+
+from currentfloor.errors import FloorError
+
+
+def pair(value):
+    """One of Python's own fractions, or a whole number, as the program has it."""
+    value = Fraction(value)
+    return (value.numerator, value.denominator)
+
+
+def value_of(one):
+    return Fraction(one[0], one[1])
+
+
+def values_of(row):
+    return [value_of(one) for one in row]
+
+
+def end_behind(turns, end):
+    """The next end behind an end, by the words of point 8."""
+    other = {0: end + 1, 1: end - 1}[end % 2]
+    for turn in turns:
+        if other in turn:
+            return turn[(turn.index(other) + len(turn) - 1) % len(turn)]
+
+
+def land_from(turns, start):
+    """The ring of ends of a land, walked from one of them."""
+    ring = [start]
+    while end_behind(turns, ring[-1]) != start:
+        ring.append(end_behind(turns, ring[-1]))
+    return ring
+
+
+def lands_by_walking(turns):
+    ends = [end for turn in turns for end in turn]
+    return {frozenset(land_from(turns, end)) for end in ends}
+
+
+def begun_elsewhere(turns, source):
+    """The same rings, begun at other ends."""
+    begun = []
+    for turn in turns:
+        cut = source.randrange(len(turn)) if turn else 0
+        begun.append(turn[cut:] + turn[:cut])
+    return tuple(begun)
+
+
+def begun_with_least(turns):
+    """The same rings, by the words of point 7."""
+    return tuple(tuple(min((turn[cut:] + turn[:cut] for cut in range(len(turn))))) for turn in turns)
+
+
+def hanging_with(start, ropes):
+    """The places that hang together with the place start by these ropes."""
+    met = {start}
+    for time in ropes:
+        for rope in ropes:
+            if met & set(rope[:2]):
+                met |= set(rope[:2])
+    return met
+
+
+def small_ease(source):
+    return pair(Fraction(source.randint(1, 9), source.randint(1, 9)))
+
+
+def long_ease(source):
+    return pair(Fraction(source.randrange(10 ** 39, 10 ** 40), source.randrange(10 ** 39, 10 ** 40)))
+
+
+def ease_one(source):
+    return (1, 1)
+
+
+class Drawing:
+    """Ropes drawn one by one, each within one land, so that the drawing stays flat; rope 0 is the outer one."""
+
+    def __init__(self, source, length):
+        self.source = source
+        self.turns = [[0], [1]] + [[] for place in range(length - 1)]
+        row = [0] + list(range(2, length + 1)) + [1]
+        for k in range(length):
+            self.turns[row[k]].append(2 * k + 2)
+            self.turns[row[k + 1]].append(2 * k + 3)
+        self.ropes = length + 1
+
+    def put_ahead(self, end, mark):
+        for turn in self.turns:
+            if mark in turn:
+                turn.insert(turn.index(mark), end)
+                return
+
+    def ends(self):
+        return [end for turn in self.turns for end in turn]
+
+    def hang_place(self):
+        """A new place on one rope."""
+        self.put_ahead(2 * self.ropes, self.source.choice(self.ends()))
+        self.turns.append([2 * self.ropes + 1])
+        self.ropes += 1
+
+    def join(self):
+        """A rope through a land, from one of its corners to another one or to the same."""
+        # The corner right ahead of an end lies in the land of the other end of it.
+        first = self.source.choice(self.ends())
+        second = self.source.choice(land_from(self.turns, first ^ 1)) ^ 1
+        self.put_ahead(2 * self.ropes, first)
+        self.put_ahead(2 * self.ropes + 1, second)
+        self.ropes += 1
+
+    def numbered(self):
+        """Turns with ropes, their ends and the places but the poles numbered by chance, the outer rope last."""
+        count = self.ropes - 1
+        order = self.source.sample(range(count), count)
+        flips = [self.source.randrange(2) for rope in range(count)]
+        ends = {0: 2 * count, 1: 2 * count + 1}
+        for rope in range(count):
+            for side in range(2):
+                ends[2 * rope + 2 + side] = 2 * order[rope] + (side ^ flips[rope])
+        turns = [tuple(ends[end] for end in turn) for turn in self.turns]
+        inner = turns[2:]
+        self.source.shuffle(inner)
+        return tuple(turns[:2] + inner)
+
+
+def net_by_turns(turns, eases):
+    """The net with these turns, its ropes' places read off them."""
+    place = {end: at for at, turn in enumerate(turns) for end in turn}
+    ropes = [(place[2 * k], place[2 * k + 1], ease) for k, ease in enumerate(eases)]
+    return (len(turns), tuple(ropes), turns)
+
+
+def some_net(source, places, ropes, ease=small_ease):
+    """A flat net with so many places and ropes, which are at least places less 1; its turns begin anywhere."""
+    drawing = Drawing(source, source.randint(1, places - 1))
+    steps = [drawing.hang_place] * (places - len(drawing.turns))
+    steps += [drawing.join] * (ropes - (places - 1))
+    source.shuffle(steps)
+    for step in steps:
+        step()
+    turns = begun_elsewhere(drawing.numbered(), source)
+    return net_by_turns(turns, [ease(source) for rope in range(ropes)])
+
+
+def some_nets(source, most, ease=small_ease, times=1):
+    """Nets of each number of ropes up to the most, and of each number of places that goes with it."""
+    return [
+        some_net(source, places, ropes, ease)
+        for ropes in range(1, most + 1)
+        for places in range(2, ropes + 2)
+        for time in range(times)
+    ]
+
+
+def refused(function, *handed):
+    """The class and the fields of a refusal, None where there is none."""
+    try:
+        function(*handed)
+    except FloorError as error:
+        return (type(error).__name__, *vars(error).values())
+    return None
+
+
+def only_whole(told):
+    """Whether it is made of tuples and whole numbers alone."""
+    if type(told) is tuple:
+        return all(only_whole(one) for one in told)
+    return type(told) is int
+
+
+ONE_ROPE = (2, ((0, 1, (2, 1)),), ((0, 2), (1, 3)))
+# Poles 0 and 1, places 2 and 3; the outer rope (ends 10, 11) leaves place 0 upward and comes to place 1 from below.
+BRIDGE = (
+    4,
+    ((0, 2, (1, 1)), (0, 3, (2, 1)), (2, 3, (3, 2)), (2, 1, (1, 3)), (3, 1, (5, 1))),
+    ((0, 2, 10), (7, 11, 9), (1, 6, 4), (3, 5, 8)),
+)
