@@ -134,6 +134,12 @@ def net_by_turns(turns, eases):
     return (len(turns), tuple(ropes), turns)
 
 
+def beside_each_other(eases):
+    """The net of ropes from pole to pole with these eases."""
+    beyond = 2 * len(eases) + 2
+    return net_by_turns((tuple(range(0, beyond, 2)), tuple(range(beyond - 1, 0, -2))), eases)
+
+
 def some_net(source, places, ropes, ease=small_ease):
     """A flat net with so many places and ropes, which are at least places less 1; its turns begin anywhere."""
     drawing = Drawing(source, source.randint(1, places - 1))

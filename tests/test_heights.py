@@ -12,8 +12,8 @@ from helper import (
     BRIDGE,
     ONE_ROPE,
     begun_elsewhere,
+    beside_each_other,
     long_ease,
-    net_by_turns,
     only_whole,
     pair,
     some_net,
@@ -37,10 +37,6 @@ def in_a_row(eases):
     count = len(eases)
     row = [0] + list(range(2, count + 1)) + [1]
     return net_of_ropes(count + 1, tuple((row[k], row[k + 1], ease) for k, ease in enumerate(eases)))
-
-
-def beside_each_other(eases):
-    return net_of_ropes(2, tuple((0, 1, ease) for ease in eases))
 
 
 def many_nets():

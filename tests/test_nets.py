@@ -13,6 +13,7 @@ from helper import (
     ONE_ROPE,
     begun_elsewhere,
     begun_with_least,
+    beside_each_other,
     hanging_with,
     lands_by_walking,
     long_ease,
@@ -131,8 +132,7 @@ class LookedThrough(NetCase):
 
     def test_ropes_between_the_same_places(self):
         for count in range(1, 15):
-            turns = (tuple(range(0, 2 * count + 2, 2)), tuple(range(2 * count + 1, 0, -2)))
-            self.check(net_by_turns(turns, [(1, 1)] * count))
+            self.check(beside_each_other([(1, 1)] * count))
 
 
 class Refused(NetCase):
@@ -141,10 +141,8 @@ class Refused(NetCase):
             self.assert_refused((places, BRIDGE[1], BRIDGE[2]), "NoNet", "places")
 
     def test_numbers_of_ropes(self):
-        rope = (0, 1, (1, 1))
         for count in (0, 15, 16, 40):
-            turns = (tuple(range(0, 2 * count + 2, 2)), tuple(range(2 * count + 1, 0, -2)))
-            self.assert_refused((2, (rope,) * count, turns), "NoNet", "ropes")
+            self.assert_refused(beside_each_other([(1, 1)] * count), "NoNet", "ropes")
 
     def test_places_of_ropes(self):
         for number in range(5):

@@ -166,6 +166,8 @@ class NoNet(RefusedCase):
         self.assertEqual(told, ("NoNet", "ropes"))
         told = self.check("2; 0 999 2; 0 2 | 1 3", 2, ((0, 999, (2, 1)),), turns)
         self.assertEqual(told, ("NoRope", 0, "place"))
+        told = self.check("2; 100 1 2; 0 2 | 1 3", 2, ((100, 1, (2, 1)),), turns)
+        self.assertEqual(told, ("NoRope", 0, "place"))
         told = self.check("2; 0 1 2; 0 2 | 1 999", 2, (rope,), ((0, 2), (1, 999)))
         self.assertEqual(told, ("NoTurn", 1))
         told = self.check("2; 0 1 2; 0 2", 2, (rope,), ((0, 2),))
