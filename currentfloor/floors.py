@@ -1,6 +1,6 @@
-"""Floors: laid of a net, without their points, turned by a quarter."""
+"""Floors: laid of a net, without their points, turned by a quarter; their numbers."""
 
-from currentfloor.fractions import less, minus, plus, times
+from currentfloor.fractions import less, minus, plus, times, wholes
 from currentfloor.heights import heights, runnings_by
 from currentfloor.lands import land_of
 
@@ -61,3 +61,17 @@ def turned(floor):
     """The floor turned by a quarter against the clock."""
     height = floor[1]
     return (height, floor[0], tuple([turned_rectangle(rectangle, height) for rectangle in floor[2]]))
+
+
+def numbers_of(floor):
+    """All numbers of the floor: width, height, and those of the rectangles."""
+    numbers = [floor[0], floor[1]]
+    for rectangle in floor[2]:
+        numbers.extend(list(rectangle))
+    return numbers
+
+
+def whole_floor(floor, bottom):
+    """Width, height and rectangles times a number that all bottoms divide, as whole numbers."""
+    sides = wholes(floor[:2], bottom)
+    return (sides[0], sides[1], [wholes(rectangle, bottom) for rectangle in floor[2]])

@@ -1,6 +1,8 @@
 """Floors looked at: whether their rectangles cover them just once."""
 
-from currentfloor.fractions import common_bottom, fraction, wholes
+from currentfloor.errors import NoFloor
+from currentfloor.floors import numbers_of, whole_floor
+from currentfloor.fractions import common_bottom, fraction
 
 
 def is_neither(rectangle):
@@ -79,13 +81,22 @@ def looked_whole(width, height, rectangles):
 
 def looked(floor):
     """What is found first in the floor, or that it covers."""
-    numbers = [floor[0], floor[1]]
-    for rectangle in floor[2]:
-        numbers.extend(list(rectangle))
     # Times one number all are whole, and lie as they did.
-    bottom = common_bottom(numbers)
-    sides = wholes([floor[0], floor[1]], bottom)
-    found = looked_whole(sides[0], sides[1], [wholes(rectangle, bottom) for rectangle in floor[2]])
+    bottom = common_bottom(numbers_of(floor))
+    whole = whole_floor(floor, bottom)
+    found = looked_whole(whole[0], whole[1], whole[2])
     if found[0] == "gap":
         return ("gap",) + tuple([fraction(number, bottom) for number in found[1:]])
     return found
+
+
+def covers(floor):
+    """Whether the floor covers."""
+    return looked(floor) == ("covers",)
+
+
+def check_covers(floor):
+    """Refuses a floor that does not cover."""
+    found = looked(floor)
+    if found != ("covers",):
+        raise NoFloor(found)

@@ -1,5 +1,7 @@
-"""What several tests need: flat nets drawn by chance from a seed, and the document's words as slow code."""
+"""What several tests need: flat nets and floors drawn by chance from a seed, the document's words as slow code."""
 
+import itertools
+import math
 from fractions import Fraction
 
 from currentfloor.errors import FloorError
@@ -162,6 +164,119 @@ def some_nets(source, most, ease=small_ease, times=1):
     ]
 
 
+def floor_of(width, height, *rectangles):
+    """A floor of Python's own numbers."""
+    rows = tuple(tuple(pair(number) for number in rectangle) for rectangle in rectangles)
+    return (pair(width), pair(height), rows)
+
+
+def by_sevenths(source, low, high):
+    """A number between both, a seventh or some more on the way."""
+    return low + Fraction(source.randint(1, 6), 7) * (high - low)
+
+
+def by_halves(source, low, high):
+    """The number in the middle of both, so that sides often meet."""
+    return (low + high) / 2
+
+
+def by_nine_figures(source, low, high):
+    """A number between both with nine figures below and at most as many above, where both are at most 1."""
+    bottom = source.randrange(10 ** 8, 10 ** 9)
+    return Fraction(source.randint(math.floor(low * bottom) + 1, math.ceil(high * bottom) - 1), bottom)
+
+
+def cut_in_two(source, rectangle, between):
+    left, low, right, high = rectangle
+    if source.randrange(2):
+        x = between(source, left, right)
+        return [(left, low, x, high), (x, low, right, high)]
+    y = between(source, low, high)
+    return [(left, low, right, y), (left, y, right, high)]
+
+
+def made_a_wheel(source, rectangle, between):
+    """Five rectangles in the place of one, four of them round a middle, one way or the other."""
+    left, low, right, high = rectangle
+    x, y = between(source, left, right), between(source, low, high)
+    far, top = between(source, x, right), between(source, y, high)
+    if source.randrange(2):
+        ring = [(left, low, far, y), (far, low, right, top), (x, top, right, high), (left, y, x, high)]
+    else:
+        ring = [(x, low, right, y), (far, y, right, high), (left, top, far, high), (left, low, x, top)]
+    return ring + [(x, y, far, top)]
+
+
+def some_floor(source, count, wheels=0, between=by_sevenths):
+    """Width, height and so many rectangles: one cut in two, or made a wheel, again and again, in any order."""
+    width = between(source, Fraction(0), Fraction(1))
+    height = between(source, Fraction(0), Fraction(1))
+    rectangles = [(Fraction(0), Fraction(0), width, height)]
+    steps = [cut_in_two] * (count - 1 - 4 * wheels) + [made_a_wheel] * wheels
+    source.shuffle(steps)
+    for step in steps:
+        rectangle = rectangles.pop(source.randrange(len(rectangles)))
+        rectangles += step(source, rectangle, between)
+    source.shuffle(rectangles)
+    return (width, height, rectangles)
+
+
+def some_floors(source, most, times=1):
+    """Floors of each number of rectangles up to the most, with each number of wheels that goes with it."""
+    floors = []
+    for count in range(1, most + 1):
+        for wheels in range((count - 1) // 4 + 1):
+            for between in [by_sevenths, by_halves, by_nine_figures] * times:
+                width, height, rectangles = some_floor(source, count, wheels, between)
+                floors.append(floor_of(width, height, *rectangles))
+    return floors
+
+
+def stands_above(rectangles, j, k):
+    """Whether above j, k fits, by the words of point 30."""
+    if not 0 <= j < k < len(rectangles):
+        return False
+    (left, low, right, high), (start, foot, stop, top) = rectangles[j], rectangles[k]
+    if (left, right) != (start, stop) or (low != top and foot != high):
+        return False
+    level = low if low == top else high
+    others = [third for at, third in enumerate(rectangles) if at not in (j, k)]
+    sides = [(y, third[0], third[2]) for third in others for y in (third[1], third[3])]
+    return not any(y == level and one <= right and other >= left for y, one, other in sides)
+
+
+def stands_beside(rectangles, j, k):
+    """Whether beside j, k fits, by the words of point 30."""
+    if not 0 <= j < k < len(rectangles):
+        return False
+    (left, low, right, high), (start, foot, stop, top) = rectangles[j], rectangles[k]
+    return (low, high) == (foot, top) and (right == start or stop == left)
+
+
+STANDS = {"above": stands_above, "beside": stands_beside}
+
+
+def step_fits(floor, step):
+    """Whether a step above or beside fits the floor."""
+    rectangles = [tuple(values_of(rectangle)) for rectangle in floor[2]]
+    return STANDS[step[0]](rectangles, *step[1:])
+
+
+def steps_that_fit(floor):
+    """All steps above and beside that fit, sorted."""
+    rectangles = [tuple(values_of(rectangle)) for rectangle in floor[2]]
+    pairs = list(itertools.product(range(len(rectangles)), repeat=2))
+    return tuple((word, j, k) for word in ("above", "beside") for j, k in pairs if STANDS[word](rectangles, j, k))
+
+
+def drawn_together(floor, j, k):
+    """The floor with j and k together, which fit."""
+    one, other = values_of(floor[2][j]), values_of(floor[2][k])
+    both = [min(one[0], other[0]), min(one[1], other[1]), max(one[2], other[2]), max(one[3], other[3])]
+    rows = [rectangle if at != j else tuple(pair(number) for number in both) for at, rectangle in enumerate(floor[2])]
+    return (floor[0], floor[1], tuple(rows[:k] + rows[k + 1:]))
+
+
 def refused(function, *handed):
     """The class and the fields of a refusal, None where there is none."""
     try:
@@ -185,3 +300,6 @@ BRIDGE = (
     ((0, 2, (1, 1)), (0, 3, (2, 1)), (2, 3, (3, 2)), (2, 1, (1, 3)), (3, 1, (5, 1))),
     ((0, 2, 10), (7, 11, 9), (1, 6, 4), (3, 5, 8)),
 )
+# Five rectangles round a middle, gone round against the clock and with it.
+WHEEL = floor_of(3, 3, (0, 0, 2, 1), (2, 0, 3, 2), (1, 2, 3, 3), (0, 1, 1, 3), (1, 1, 2, 2))
+WHEEL_BACK = floor_of(3, 3, (1, 0, 3, 1), (2, 1, 3, 3), (0, 2, 2, 3), (0, 0, 1, 2), (1, 1, 2, 2))

@@ -14,6 +14,7 @@ from helper import (
     ONE_ROPE,
     begun_elsewhere,
     ease_one,
+    floor_of,
     long_ease,
     net_by_turns,
     only_whole,
@@ -28,12 +29,6 @@ ONE = (1, 1)
 FALLS = (
     ONE, (7, 1), (1, 7), (3, 2), (10 ** 9 - 1, 1), (1, 10 ** 9 - 1), (10 ** 9 - 1, 10 ** 9 - 2), (123456789, 987654320),
 )
-
-
-def whole_floor(width, height, *rectangles):
-    """A floor of whole numbers."""
-    rows = tuple(tuple((number, 1) for number in rectangle) for rectangle in rectangles)
-    return ((width, 1), (height, 1), rows)
 
 
 def upside_down(net, number):
@@ -63,34 +58,34 @@ class FloorCase(unittest.TestCase):
 
 class Laid(FloorCase):
     def test_one_rope(self):
-        self.assertEqual(laid(ONE_ROPE, ONE), whole_floor(2, 1, (0, 0, 2, 1)))
+        self.assertEqual(laid(ONE_ROPE, ONE), floor_of(2, 1, (0, 0, 2, 1)))
         self.assertEqual(laid(ONE_ROPE, (3, 2)), ((3, 1), (3, 2), (((0, 1), (0, 1), (3, 1), (3, 2)),)))
 
     def test_beside_each_other(self):
         # Against the clock from the outer rope, which goes upward, rope 0 comes ahead of rope 1, so it lies left.
         net = net_by_turns(((4, 0, 2), (5, 3, 1)), [(2, 1), (3, 1)])
-        self.assertEqual(laid(net, ONE), whole_floor(5, 1, (0, 0, 2, 1), (2, 0, 5, 1)))
+        self.assertEqual(laid(net, ONE), floor_of(5, 1, (0, 0, 2, 1), (2, 0, 5, 1)))
         net = net_by_turns(((4, 2, 0), (5, 1, 3)), [(2, 1), (3, 1)])
-        self.assertEqual(laid(net, ONE), whole_floor(5, 1, (3, 0, 5, 1), (0, 0, 3, 1)))
+        self.assertEqual(laid(net, ONE), floor_of(5, 1, (3, 0, 5, 1), (0, 0, 3, 1)))
 
     def test_one_below_the_other(self):
         net = net_by_turns(((0, 4), (3, 5), (1, 2)), [(1, 1), (1, 2)])
-        self.assertEqual(laid(net, (3, 1)), whole_floor(1, 3, (0, 2, 1, 3), (0, 0, 1, 2)))
+        self.assertEqual(laid(net, (3, 1)), floor_of(1, 3, (0, 2, 1, 3), (0, 0, 1, 2)))
 
     def test_bridge(self):
-        self.assertEqual(laid(BRIDGE, (131, 1)), whole_floor(
+        self.assertEqual(laid(BRIDGE, (131, 1)), floor_of(
             238, 131, (0, 69, 62, 131), (62, 43, 238, 131), (23, 43, 62, 69), (0, 0, 23, 69), (23, 0, 238, 43),
         ))
 
     def test_points(self):
         # Rope 1 is a ring at place 0, left of rope 0; rope 2 leads to place 2 at the right, where nothing goes on.
         net = net_by_turns(((6, 2, 3, 0), (1, 7, 4), (5,)), [(2, 1), (1, 1), (1, 1)])
-        self.assertEqual(laid(net, ONE), whole_floor(2, 1, (0, 0, 2, 1), (0, 1, 0, 1), (2, 0, 2, 0)))
+        self.assertEqual(laid(net, ONE), floor_of(2, 1, (0, 0, 2, 1), (0, 1, 0, 1), (2, 0, 2, 0)))
 
     def test_point_within_the_floor(self):
         # A bridge in which nothing runs: the four rectangles beside it meet in its point.
         net = net_by_turns(BRIDGE[2], [ONE] * 5)
-        self.assertEqual(laid(net, (2, 1)), whole_floor(
+        self.assertEqual(laid(net, (2, 1)), floor_of(
             2, 2, (0, 1, 1, 2), (1, 1, 2, 2), (1, 1, 1, 1), (0, 0, 1, 1), (1, 0, 2, 1),
         ))
 
@@ -173,10 +168,10 @@ class Laid(FloorCase):
 
 class WithoutPoints(FloorCase):
     def test_by_hand(self):
-        floor = whole_floor(2, 1, (1, 0, 2, 1), (0, 0, 0, 0), (0, 0, 1, 1), (2, 1, 2, 1))
-        self.assertEqual(without_points(floor), whole_floor(2, 1, (1, 0, 2, 1), (0, 0, 1, 1)))
-        self.assertEqual(without_points(whole_floor(2, 1)), whole_floor(2, 1))
-        self.assertEqual(without_points(whole_floor(2, 1, (1, 1, 1, 1))), whole_floor(2, 1))
+        floor = floor_of(2, 1, (1, 0, 2, 1), (0, 0, 0, 0), (0, 0, 1, 1), (2, 1, 2, 1))
+        self.assertEqual(without_points(floor), floor_of(2, 1, (1, 0, 2, 1), (0, 0, 1, 1)))
+        self.assertEqual(without_points(floor_of(2, 1)), floor_of(2, 1))
+        self.assertEqual(without_points(floor_of(2, 1, (1, 1, 1, 1))), floor_of(2, 1))
 
     def test_none_there(self):
         floor = laid(BRIDGE, ONE)
@@ -203,7 +198,7 @@ class Turned(FloorCase):
 
     def test_what_lay_below_lies_right(self):
         net = net_by_turns(((0, 4), (3, 5), (1, 2)), [(1, 1), (1, 2)])
-        self.assertEqual(turned(laid(net, (3, 1))), whole_floor(3, 1, (0, 0, 1, 1), (1, 0, 3, 1)))
+        self.assertEqual(turned(laid(net, (3, 1))), floor_of(3, 1, (0, 0, 1, 1), (1, 0, 3, 1)))
 
     def test_turned_four_times(self):
         source = random.Random(29)

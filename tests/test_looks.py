@@ -7,13 +7,7 @@ from fractions import Fraction
 
 from currentfloor.floors import laid, turned, without_points
 from currentfloor.looks import looked
-from helper import BRIDGE, pair, some_nets, value_of, values_of
-
-
-def floor_of(width, height, rectangles):
-    """A floor of Python's own numbers."""
-    rows = tuple(tuple(pair(number) for number in rectangle) for rectangle in rectangles)
-    return (pair(width), pair(height), rows)
+from helper import BRIDGE, WHEEL, WHEEL_BACK, floor_of, pair, some_floor, some_nets, value_of, values_of
 
 
 def none_found(rectangles):
@@ -65,27 +59,9 @@ def expected(floor):
     return found or gap_found(width, height, rectangles) or ("covers",)
 
 
-def cut_floor(source, count):
-    """A floor made of one rectangle by cutting one in two again and again, in any order."""
-    width = Fraction(source.randint(1, 99), source.randint(1, 99))
-    height = Fraction(source.randint(1, 99), source.randint(1, 99))
-    rectangles = [(Fraction(0), Fraction(0), width, height)]
-    while len(rectangles) < count:
-        left, low, right, high = rectangles.pop(source.randrange(len(rectangles)))
-        share = Fraction(source.randint(1, 6), 7)
-        if source.randrange(2):
-            x = left + share * (right - left)
-            rectangles += [(left, low, x, high), (x, low, right, high)]
-        else:
-            y = low + share * (high - low)
-            rectangles += [(left, low, right, y), (left, y, right, high)]
-    source.shuffle(rectangles)
-    return (width, height, rectangles)
-
-
 class LookCase(unittest.TestCase):
     def assert_found(self, width, height, rectangles, *found):
-        floor = floor_of(width, height, rectangles)
+        floor = floor_of(width, height, *rectangles)
         told = looked(floor)
         self.assertEqual(told, found)
         self.assertIs(type(told), tuple)
@@ -107,8 +83,9 @@ class Covers(LookCase):
         self.assert_found(2, 1, points + [everything], "covers")
 
     def test_round_a_middle(self):
-        ring = [(0, 0, 2, 1), (2, 0, 3, 2), (1, 2, 3, 3), (0, 1, 1, 3), (1, 1, 2, 2)]
-        self.assert_found(3, 3, ring, "covers")
+        for floor in (WHEEL, WHEEL_BACK):
+            self.assertEqual(looked(floor), ("covers",))
+            self.assertEqual(expected(floor), ("covers",))
 
     def test_laid_floors(self):
         for net in some_nets(random.Random(20), 9):
@@ -119,7 +96,7 @@ class Covers(LookCase):
     def test_up_to_thirty(self):
         source = random.Random(21)
         for count in range(1, 31):
-            width, height, rectangles = cut_floor(source, count)
+            width, height, rectangles = some_floor(source, count)
             self.assert_found(width, height, rectangles, "covers")
 
 
@@ -235,10 +212,10 @@ class Gap(LookCase):
     def test_one_missing(self):
         source = random.Random(22)
         for count in range(1, 31):
-            width, height, rectangles = cut_floor(source, count)
+            width, height, rectangles = some_floor(source, count)
             gone = rectangles.pop(source.randrange(count))
-            told = looked(floor_of(width, height, rectangles))
-            self.assertEqual(told, expected(floor_of(width, height, rectangles)))
+            told = looked(floor_of(width, height, *rectangles))
+            self.assertEqual(told, expected(floor_of(width, height, *rectangles)))
             left, low, right, high = values_of(told[1:])
             self.assertEqual((left, low), gone[:2])
             self.assertTrue(right <= gone[2] and high <= gone[3])
@@ -276,10 +253,10 @@ class ByChance(LookCase):
         source = random.Random(23)
         found = {}
         for time in range(1500):
-            width, height, rectangles = cut_floor(source, source.randint(1, 9))
+            width, height, rectangles = some_floor(source, source.randint(1, 9))
             for step in range(source.randint(0, 2)):
                 rectangles = changed(source, rectangles)
-            floor = floor_of(width, height, rectangles)
+            floor = floor_of(width, height, *rectangles)
             told = looked(floor)
             self.assertEqual(told, expected(floor), floor)
             found[told[0]] = found.get(told[0], 0) + 1
@@ -290,7 +267,7 @@ class ByChance(LookCase):
         source = random.Random(24)
         for time in range(1500):
             rectangles = [tuple(some_number(source) for side in range(4)) for one in range(source.randint(0, 3))]
-            floor = floor_of(source.randint(1, 8), source.randint(1, 8), rectangles)
+            floor = floor_of(source.randint(1, 8), source.randint(1, 8), *rectangles)
             self.assertEqual(looked(floor), expected(floor), floor)
 
     def test_nothing_changes(self):
@@ -302,16 +279,16 @@ class ByChance(LookCase):
     def test_turned_floors_cover_alike(self):
         source = random.Random(25)
         for time in range(100):
-            width, height, rectangles = cut_floor(source, 12)
-            floor = floor_of(width, height, rectangles)
+            width, height, rectangles = some_floor(source, 12)
+            floor = floor_of(width, height, *rectangles)
             self.assertEqual(looked(turned(floor)), ("covers",))
             self.assertEqual(without_points(floor), floor)
 
     def test_long_fractions(self):
         source = random.Random(26)
-        width, height, rectangles = cut_floor(source, 20)
+        width, height, rectangles = some_floor(source, 20)
         far = Fraction(source.randrange(10 ** 299, 10 ** 300), source.randrange(10 ** 299, 10 ** 300))
-        floor = floor_of(far * width, far * height, [[far * number for number in one] for one in rectangles])
+        floor = floor_of(far * width, far * height, *[[far * number for number in one] for one in rectangles])
         self.assertEqual(looked(floor), ("covers",))
         missing = (floor[0], floor[1], floor[2][1:])
         self.assertEqual(looked(missing), expected(missing))
