@@ -6,9 +6,9 @@ from currentfloor.fractions import less
 from currentfloor.looks import covers
 
 
-def is_pair(floor, j, k):
-    """Whether there are rectangles of both numbers, the first number less than the second."""
-    return 0 <= j and j < k and k < len(floor[2])
+def is_pair(count, j, k):
+    """Whether of so many rectangles there are both numbers, the first one less than the second."""
+    return 0 <= j and j < k and k < count
 
 
 def touches(rectangle, level, left, right):
@@ -40,8 +40,10 @@ def is_above(rectangles, j, k):
     return True
 
 
-def is_beside(one, other):
+def is_beside(rectangles, j, k):
     """Whether both stand beside each other, at the same heights."""
+    one = rectangles[j]
+    other = rectangles[k]
     if one[1] != other[1] or one[3] != other[3]:
         return False
     return one[2] == other[0] or other[2] == one[0]
@@ -94,7 +96,8 @@ class Above(Step):
 
     def fits(self, floor):
         """Whether the step can be done."""
-        return is_pair(floor, self.one, self.other) and is_above(floor[2], self.one, self.other)
+        rectangles = floor[2]
+        return is_pair(len(rectangles), self.one, self.other) and is_above(rectangles, self.one, self.other)
 
     def done(self, floor):
         """The floor that the step makes."""
@@ -114,7 +117,8 @@ class Beside(Step):
 
     def fits(self, floor):
         """Whether the step can be done."""
-        return is_pair(floor, self.one, self.other) and is_beside(floor[2][self.one], floor[2][self.other])
+        rectangles = floor[2]
+        return is_pair(len(rectangles), self.one, self.other) and is_beside(rectangles, self.one, self.other)
 
     def done(self, floor):
         """The floor that the step makes."""
@@ -146,14 +150,13 @@ class Split(Step):
 
     def joining(self):
         """The step that draws both parts together again, if one does."""
-        if is_beside(self.first, self.second):
+        if is_beside([self.first, self.second], 0, 1):
             return Beside(self.one, self.other)
         return Above(self.one, self.other)
 
     def fits(self, floor):
         """Whether the step can be done."""
-        count = len(floor[2])
-        if self.one < 0 or self.one >= count or self.other <= self.one or self.other > count:
+        if not is_pair(len(floor[2]) + 1, self.one, self.other):
             return False
         made = self.made(floor)
         joining = self.joining()
