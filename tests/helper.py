@@ -277,6 +277,41 @@ def drawn_together(floor, j, k):
     return (floor[0], floor[1], tuple(rows[:k] + rows[k + 1:]))
 
 
+def end_by_chance(source, floor):
+    """The floor at the end when of the steps that fit any one is taken."""
+    steps = steps_that_fit(floor)
+    while steps:
+        floor = drawn_together(floor, *source.choice(steps)[1:])
+        steps = steps_that_fit(floor)
+    return floor
+
+
+def hung_up(width, height, sizes):
+    """The squares of a row of sizes, or the refusal, by the words of point 36, the border told column by column."""
+    levels = [height] * width
+    squares = []
+    for at, size in enumerate(sizes):
+        level = max(levels)
+        left = levels.index(level)
+        wide = len(list(itertools.takewhile(lambda column: column == level, levels[left:])))
+        if size < 1 or size > wide or level - size < 0:
+            return ("NoSize", at)
+        squares.append((left, level - size, left + size, level))
+        levels[left:left + size] = [level - size] * size
+    return squares if max(levels) == 0 else ("NoSize", len(sizes))
+
+
+def some_squares(source, most=30):
+    """Width, height and the sizes of squares that fill it, at most so many, drawn one by one."""
+    width, height = source.randint(1, 12), source.randint(1, 12)
+    sizes = []
+    while hung_up(width, height, sizes) == ("NoSize", len(sizes)):
+        size = source.randint(1, min(width, height))
+        if hung_up(width, height, sizes + [size]) != ("NoSize", len(sizes)):
+            sizes.append(size)
+    return (width, height, sizes) if len(sizes) <= most else some_squares(source, most)
+
+
 def refused(function, *handed):
     """The class and the fields of a refusal, None where there is none."""
     try:
@@ -303,3 +338,9 @@ BRIDGE = (
 # Five rectangles round a middle, gone round against the clock and with it.
 WHEEL = floor_of(3, 3, (0, 0, 2, 1), (2, 0, 3, 2), (1, 2, 3, 3), (0, 1, 1, 3), (1, 1, 2, 2))
 WHEEL_BACK = floor_of(3, 3, (1, 0, 3, 1), (2, 1, 3, 3), (0, 2, 2, 3), (0, 0, 1, 2), (1, 1, 2, 2))
+# Nine squares, no two of one size: 33 wide and 32 high.
+UNLIKE_SIZES = (18, 15, 7, 8, 14, 4, 10, 1, 9)
+UNLIKE = floor_of(
+    33, 32, (0, 14, 18, 32), (18, 17, 33, 32), (18, 10, 25, 17), (25, 9, 33, 17), (0, 0, 14, 14), (14, 10, 18, 14),
+    (14, 0, 24, 10), (24, 9, 25, 10), (24, 0, 33, 9),
+)

@@ -14,6 +14,7 @@ from helper import (
     WHEEL_BACK,
     drawn_together,
     ease_one,
+    end_by_chance,
     floor_of,
     only_whole,
     pair,
@@ -32,15 +33,6 @@ FOUR = floor_of(2, 2, (0, 0, 1, 1), (1, 0, 2, 1), (0, 1, 1, 2), (1, 1, 2, 2))
 THREE_COLUMNS = floor_of(
     3, 3, (0, 0, 1, 1), (0, 1, 1, 3), (1, 0, 2, 1), (1, 1, 2, 2), (1, 2, 2, 3), (2, 0, 3, 2), (2, 2, 3, 3),
 )
-
-
-def end_by_chance(source, floor):
-    """The floor at the end when of the steps that fit any one is taken."""
-    steps = steps_that_fit(floor)
-    while steps:
-        floor = drawn_together(floor, *source.choice(steps)[1:])
-        steps = steps_that_fit(floor)
-    return floor
 
 
 def four_meet(rectangles):
