@@ -179,6 +179,16 @@ class TheNames(unittest.TestCase):
                 if name not in methods:
                     self.assertFalse(hasattr(builtins, name), (path, row, name))
 
+    def test_no_local_is_called_like_a_class_or_an_import(self):
+        for path, tree in parsed():
+            taken = {alias.name for node in tree.body if isinstance(node, ast.ImportFrom) for alias in node.names}
+            taken |= {node.name for node in tree.body if isinstance(node, ast.ClassDef)}
+            for node in ast.walk(tree):
+                if isinstance(node, ast.arg):
+                    self.assertNotIn(node.arg, taken, (path, node.lineno))
+                if isinstance(node, ast.Name) and isinstance(node.ctx, ast.Store):
+                    self.assertNotIn(node.id, taken, (path, node.lineno))
+
     def test_only_the_listed_names_of_python(self):
         for path, tree in parsed():
             bound = {name for name, row in bound_names(tree)}
